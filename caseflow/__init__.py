@@ -1,0 +1,1 @@
+"""Caseflow: workflows whose choices are free."""

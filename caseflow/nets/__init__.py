@@ -1,0 +1,1 @@
+"""Nets and workflows, their clusters and their runs."""

@@ -13,6 +13,11 @@ def is_integer_within(value, least, most):
     return is_integer(value) and least <= value <= most
 
 
+def are_integers(value):
+    """Returns whether the value is a tuple of integers, perhaps ()."""
+    return isinstance(value, tuple) and all([is_integer(part) for part in value])
+
+
 def is_name(value):
     """Returns whether the value is a name: one to eight letters, a to z."""
     if not isinstance(value, str) or not 1 <= len(value) <= MAX_LETTERS:

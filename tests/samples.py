@@ -4,6 +4,7 @@ import signal
 from string import ascii_lowercase
 
 from caseflow.nets.runs import all_runs
+from caseflow.nets.walks import Walk
 
 F = (7, (("back", (4,), (2,)), ("check", (2,), (4,)), ("fork", (0,), (2, 3)),
          ("join", (5, 6), (1,)), ("pass", (4,), (5,)), ("pay", (3,), (6,))))
@@ -11,6 +12,10 @@ P = (3, (("card", (0,), (2,)), ("cash", (0,), (2,)), ("ship", (2,), (1,))))
 C = (3, (("again", (2,), (2,)), ("begin", (0,), (2,)), ("stop", (2,), (1,))))
 B = (4, (("both", (2, 3), (1,)), ("left", (0,), (2,)), ("right", (0,), (3,))))
 L = (4, (("fork", (0,), (2, 3)), ("left", (2,), (1,)), ("right", (3,), (1,))))
+
+# The places 2 and 7 are never marked together, but such a marking could be finished, too.
+D = (8, (("again", (4, 5), (2, 3)), ("begin", (0,), (2, 3)), ("end", (4, 5), (1,)), ("left", (2,), (4,)),
+         ("other", (4, 5), (6, 7)), ("right", (3,), (5,)), ("up", (6,), (4,)), ("upper", (7,), (5,))))
 
 WORKFLOWS = (F, P, C, B, L)
 
@@ -68,7 +73,7 @@ ODD = (
     {}, {0: 1}, {"fork": (0,)}, {(1, 0, 0): (0, 2)}, {(1, 0, 0): 0, (0, 0, 1): 1},
     ((0,), (0,)), (("a", (0,), (1,)),), (2, ("a", (0,), (1,))), (2, ()), (((0,), ("fork",)),),
     nested(tuple, 10), nested(list, 10), nested(dict, 10),
-    all_runs(C, length=1),
+    all_runs(C, length=1), Walk.along(C, ("begin",)),
 ) + NETS
 
 
@@ -127,6 +132,15 @@ def same(one, other):
     if isinstance(one, dict):
         return same(list(one), list(other)) and all(same(one[k], other[k]) for k in one)
     return one == other
+
+
+def copy_of(value):
+    """Returns an equal value that shares no list and no dict with this one; generators cannot be copied."""
+    if isinstance(value, dict):
+        return {key: copy_of(part) for key, part in value.items()}
+    if isinstance(value, (list, tuple)):
+        return type(value)(copy_of(part) for part in value)
+    return value
 
 
 def outcome(call, *args, **more):

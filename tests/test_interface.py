@@ -24,7 +24,30 @@ FUNCTIONS = {
         "markings_on": "(net, run, *, marking=None)", "all_runs": "(net, *, length)",
         "reachable_markings": "(net, *, limit=4096)",
     },
+    "caseflow.algebra.weightings": {
+        "effect": "(net, name)", "is_weighting": "(net, value)", "are_counts": "(net, value)",
+        "are_growing_counts": "(net, value)", "are_rising_weights": "(net, value)", "weighting_basis": "(net)",
+        "counts_basis": "(net)", "effect_rank": "(net)", "positive_weighting": "(net)", "growing_counts": "(net)",
+        "positive_counts": "(net)", "rising_weights": "(net)",
+    },
+    "caseflow.algebra.siphons": {
+        "is_siphon": "(net, value, *, closed=False)", "is_trap": "(net, value, *, closed=False)",
+        "largest_siphon": "(net, places, *, closed=False)", "largest_trap": "(net, places, *, closed=False)",
+        "empty_siphon": "(net, marking, *, closed=False)", "empty_trap": "(net, marking, *, closed=False)",
+    },
+    "caseflow.sound.tables": {"finish_table": "(workflow)", "is_finish_table": "(workflow, value)"},
 }
+CLASSES = {
+    "caseflow.nets.walks": {"Walk": {
+        "__init__": "(self, net)", "__len__": "(self)", "__str__": "(self)", "__eq__": "(self, other)",
+        "put": "(self, run)", "do": "(self, *names)", "markings": "(self)", "back": "(self, many=1)",
+    }},
+}
+PROPERTIES = {"caseflow.nets.walks": {"Walk": {"marking": False, "next_steps": False, "names": True}}}
+CLASS_METHODS = {"caseflow.nets.walks": {"Walk": {"along": "(net, run)"}}}
+STATIC_METHODS = {"caseflow.nets.walks": {"Walk": {"is_long_enough": "(many)"}}}
+CLASS_VALUES = {"caseflow.nets.walks": {"Walk": {"LONGEST": 400}}}
+GENERATORS = ("all_runs", "markings")
 CONSTANTS = {
     "caseflow.nets.nets": {"MAX_PLACES": 30, "MAX_STEPS": 40},
     "caseflow.nets.runs": {"MAX_MARKINGS": 4096, "MAX_MET": 256, "MAX_TOKENS": 10 ** 9},
@@ -34,6 +57,13 @@ ERRORS = (
     "InvalidChances", "InvalidCosts", "InvalidLibrary", "InvalidTerm", "InvalidLog", "InvalidOperation",
     "ParseError", "InvalidCommand", "UnknownStep", "UnknownName", "InvalidRun", "InvalidNumber", "TooMany", "NotSound",
 )
+
+
+def listed(table):
+    """Yields each class of a table by its module, with the names that stand there for it."""
+    for module, classes in table.items():
+        for name, members in classes.items():
+            yield getattr(import_module(module), name), members
 
 
 def defined(module):
@@ -65,7 +95,39 @@ class Interface(unittest.TestCase):
         for module, functions in FUNCTIONS.items():
             for name in functions:
                 found = isgeneratorfunction(getattr(import_module(module), name))
-                self.assertEqual(found, name == "all_runs", name)
+                self.assertEqual(found, name in GENERATORS, name)
+
+
+class Classes(unittest.TestCase):
+
+    def test_files(self):
+        for module, classes in CLASSES.items():
+            self.assertEqual([name for name in classes if name not in defined(module)], [])
+
+    def test_methods(self):
+        for found, methods in listed(CLASSES):
+            for name, parameters in methods.items():
+                self.assertEqual(str(signature(vars(found)[name])), parameters, name)
+                self.assertEqual(isgeneratorfunction(vars(found)[name]), name in GENERATORS, name)
+
+    def test_properties(self):
+        for found, properties in listed(PROPERTIES):
+            for name, can_be_assigned in properties.items():
+                self.assertIsInstance(vars(found)[name], property)
+                self.assertEqual(vars(found)[name].fset is not None, can_be_assigned, name)
+                self.assertIsNone(vars(found)[name].fdel)
+
+    def test_class_methods_and_static_methods(self):
+        for table, kind in ((CLASS_METHODS, classmethod), (STATIC_METHODS, staticmethod)):
+            for found, methods in listed(table):
+                for name, parameters in methods.items():
+                    self.assertIsInstance(vars(found)[name], kind)
+                    self.assertEqual(str(signature(getattr(found, name))), parameters, name)
+
+    def test_class_values(self):
+        for found, values in listed(CLASS_VALUES):
+            for name, value in values.items():
+                self.assertEqual([type(vars(found)[name]), vars(found)[name]], [type(value), value])
 
 
 if __name__ == "__main__":

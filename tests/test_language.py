@@ -31,7 +31,7 @@ WORDS = (
 ).split()
 NOT_USED = (
     ast.Import, ast.AsyncFunctionDef, ast.AsyncFor, ast.AsyncWith, ast.Await, ast.Global, ast.AnnAssign,
-    ast.Div, ast.Try, ast.Lambda, ast.JoinedStr, ast.NamedExpr,
+    ast.Div, ast.Try, ast.Lambda, ast.NamedExpr, ast.GeneratorExp, ast.Match, ast.With,
 )
 DECORATORS = ("property", "staticmethod", "classmethod", "setter")
 

@@ -3,6 +3,13 @@
 import unittest
 from copy import deepcopy
 
+from caseflow.algebra.siphons import (
+    empty_siphon, empty_trap, is_siphon, is_trap, largest_siphon, largest_trap,
+)
+from caseflow.algebra.weightings import (
+    are_counts, are_growing_counts, are_rising_weights, counts_basis, effect, effect_rank, growing_counts,
+    is_weighting, positive_counts, positive_weighting, rising_weights, weighting_basis,
+)
 from caseflow.nets.clusters import cluster_of, clusters, steps_into, steps_out_of
 from caseflow.nets.nets import (
     inputs_of, is_net, is_workflow, make_net, net_defects, outputs_of, step_names,
@@ -11,6 +18,7 @@ from caseflow.nets.runs import (
     all_runs, enabled_clusters, enabled_steps, first_marking, is_complete, is_marking, is_run,
     last_marking, marking_after, markings_on, reachable_markings,
 )
+from caseflow.sound.tables import finish_table, is_finish_table
 from tests import plain
 from tests.samples import APART, B, C, F, NETS, ODD, OVERLAP, PILE, STILL, outcome, same, variants
 
@@ -21,17 +29,23 @@ OF_A_NET = (
     (first_marking, ()), (last_marking, ()), (enabled_steps, ("marking",)), (is_run, ("value",)),
     (marking_after, ("run", "*marking")), (markings_on, ("run", "*marking")),
     (all_runs, ("*length",)), (reachable_markings, ("*limit",)),
+    (effect, ("name",)), (is_weighting, ("value",)), (are_counts, ("value",)), (are_growing_counts, ("value",)),
+    (are_rising_weights, ("value",)), (weighting_basis, ()), (counts_basis, ()), (effect_rank, ()),
+    (positive_weighting, ()), (growing_counts, ()), (positive_counts, ()), (rising_weights, ()),
+    (is_siphon, ("value", "*closed")), (is_trap, ("value", "*closed")), (largest_siphon, ("places", "*closed")),
+    (largest_trap, ("places", "*closed")), (empty_siphon, ("marking", "*closed")), (empty_trap, ("marking", "*closed")),
 )
 OF_A_WORKFLOW = (
     (clusters, ()), (cluster_of, ("name",)), (enabled_clusters, ("marking",)), (is_complete, ("value",)),
+    (finish_table, ()), (is_finish_table, ("value",)),
 )
 RIGHT = {
     "name": "begin", "place": 2, "value": (), "marking": (1, 0, 0), "run": ("begin",),
-    "*marking": (2, 0, 0), "*length": 2, "*limit": 4096,
+    "*marking": (2, 0, 0), "*length": 2, "*limit": 4096, "places": (0, 2), "*closed": True,
 }
 WRONG = {
     "name": ["begin"], "place": True, "value": [None], "marking": (1, 0), "run": ("stop",),
-    "*marking": (True, 0, 0), "*length": -1, "*limit": 0,
+    "*marking": (True, 0, 0), "*length": -1, "*limit": 0, "places": [0, 2], "*closed": False,
 }
 
 
@@ -82,7 +96,9 @@ class Order(unittest.TestCase):
             (cluster_of, C, "name", "UnknownStep"), (steps_into, C, "place", "InvalidNumber"),
             (steps_out_of, C, "place", "InvalidNumber"), (enabled_steps, C, "marking", "InvalidMarking"),
             (enabled_clusters, C, "marking", "InvalidMarking"), (all_runs, C, "*length", "InvalidNumber"),
-            (reachable_markings, C, "*limit", "InvalidNumber"),
+            (reachable_markings, C, "*limit", "InvalidNumber"), (effect, C, "name", "UnknownStep"),
+            (largest_siphon, C, "places", "InvalidPlaces"), (largest_trap, C, "places", "InvalidPlaces"),
+            (empty_siphon, C, "marking", "InvalidMarking"), (empty_trap, C, "marking", "InvalidMarking"),
         )
         for function, net, name, error in expected:
             self.assertEqual(called(function, net, (name,), WRONG)[:2], ("raised", error), function)
@@ -112,7 +128,7 @@ class Order(unittest.TestCase):
 
 
 class Tests(unittest.TestCase):
-    """The functions whose names begin with is_."""
+    """The functions whose names begin with is_ or are_."""
 
     def test_every_value(self):
         values = list(ODD) + ["x" * 100000, "\x00", "\u20ac" * 9]
@@ -120,7 +136,10 @@ class Tests(unittest.TestCase):
             for function in (is_net, is_workflow):
                 self.assertIn(outcome(function, value), (("returned", True), ("returned", False)))
                 self.assertIs(type(function(value)), bool)
-            for function in (is_marking, is_run, is_complete):
+            for function in (
+                is_marking, is_run, is_complete, is_weighting, are_counts, are_growing_counts, are_rising_weights,
+                is_siphon, is_trap, is_finish_table,
+            ):
                 for net in (C, F):
                     self.assertIs(type(function(net, value)), bool, (function, value))
 
@@ -145,6 +164,7 @@ class Unchanged(unittest.TestCase):
 
     def test_arguments_are_not_changed(self):
         values = [[1, 0, 0], {"a": [1]}, ["begin"], ("begin", ["stop"]), [["a", [0], [1]]], (3, [["a", (0,), (1,)]])]
+        values += [{(1, 0, 0): (0, 2), (0, 0, 1): (1, 1)}, {(1, 0, 0): [0, 2], (0, 0, 1): [1, 1]}, [0, 2]]
         for value in values:
             before = deepcopy(value)
             for function, others in OF_A_NET + OF_A_WORKFLOW:
@@ -167,14 +187,20 @@ class Unchanged(unittest.TestCase):
     def test_only_tuples_are_returned(self):
         for function, others in OF_A_NET + OF_A_WORKFLOW:
             result = called(function, F if function in (clusters, net_defects) else C, others, RIGHT)[1]
-            self.assertIn(type(result), (tuple, bool, int), function)
-            self.assertTrue(self.flat(result), function)
+            if function == finish_table:
+                self.assertIs(type(result), dict)
+                result = tuple(result.items())
+            if result is not None or function not in (growing_counts, rising_weights):
+                self.assertIn(type(result), (tuple, bool, int), function)
+                self.assertTrue(self.flat(result), function)
         self.assertTrue(self.flat(make_net(3, *C[1][::-1])))
+        self.assertTrue(self.flat(growing_counts(B)))
+        self.assertTrue(self.flat(rising_weights(B)))
 
     def flat(self, value):
         if isinstance(value, tuple):
             return all(self.flat(part) for part in value)
-        return isinstance(value, (int, str))
+        return type(value) in (int, str, bool)
 
 
 if __name__ == "__main__":

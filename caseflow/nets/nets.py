@@ -1,6 +1,6 @@
 """Nets, workflows, and the defects of nets that are no workflows."""
 
-from caseflow.basics import ascends, is_integer, is_integer_within, is_name
+from caseflow.basics import are_integers, ascends, is_integer_within, is_name
 from caseflow.errors import InvalidNet, InvalidNumber, InvalidWorkflow, UnknownStep
 
 MAX_PLACES = 30
@@ -103,11 +103,7 @@ def _can_be_put_in_order(value):
     if not isinstance(value, tuple) or len(value) != 3:
         return False
     name, inputs, outputs = value
-    return is_name(name) and _are_integers(inputs) and _are_integers(outputs)
-
-
-def _are_integers(value):
-    return isinstance(value, tuple) and all([is_integer(part) for part in value])
+    return is_name(name) and are_integers(inputs) and are_integers(outputs)
 
 
 def _put_in_order(step):

@@ -69,8 +69,7 @@ def markings_on(net, run, *, marking=None):
     """Returns all markings from the beginning of the run to its end."""
     check_net(net)
     begin = _beginning(net, marking)
-    follow_run(net, run, begin)
-    return tuple(markings_along(net, run, begin))
+    return pass_run(net, run, begin)
 
 
 def all_runs(net, *, length):
@@ -141,6 +140,12 @@ def follow_run(net, run, begin):
     if many < len(run):
         raise InvalidRun(many)
     return marking
+
+
+def pass_run(net, run, begin):
+    """Returns all markings of a run from `begin` to its end, or raises InvalidRun."""
+    follow_run(net, run, begin)
+    return tuple(markings_along(net, run, begin))
 
 
 def markings_along(net, names, begin):

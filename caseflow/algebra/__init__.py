@@ -1,0 +1,1 @@
+"""Weightings and counts, siphons and traps."""

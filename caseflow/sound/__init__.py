@@ -1,0 +1,1 @@
+"""Whether every case of a workflow can be finished."""

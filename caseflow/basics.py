@@ -1,5 +1,7 @@
 """The kinds of values that all parts of the package use."""
 
+from math import gcd
+
 MAX_LETTERS = 8
 
 
@@ -16,6 +18,11 @@ def is_integer_within(value, least, most):
 def are_integers(value):
     """Returns whether the value is a tuple of integers, perhaps ()."""
     return isinstance(value, tuple) and all([is_integer(part) for part in value])
+
+
+def is_fraction(value):
+    """Returns whether the value is a pair of integers in lowest terms, the second one at least 1."""
+    return are_integers(value) and len(value) == 2 and value[1] >= 1 and gcd(value[0], value[1]) == 1
 
 
 def is_name(value):

@@ -6,72 +6,16 @@ from random import Random
 from caseflow.sound.structure import has_sound_structure
 from caseflow.sound.tables import finish_table, is_finish_table
 from tests import plain, plain_algebra
+from tests.built import (
+    EXACTLY_256, EXACTLY_257, GROW, TOGETHER, TWICE, UNSOUND, branches, ladder, led_to, rhombs,
+)
 from tests.randoms import nearly_sound, random_sound, random_workflows
 from tests.samples import (
-    APART, B, BACK, C, D, F, L, ODD, OVERLAP, P, PILE, STILL, WORKFLOWS, chain, choices, copy_of, in_time, label,
-    outcome, same, wide,
+    APART, B, BACK, C, D, F, L, ODD, OVERLAP, P, PILE, STILL, WORKFLOWS, chain, choices, copy_of, in_time, outcome,
+    same, wide,
 )
 
 SECONDS = 20
-# A loop that gives a token more each time.
-GROW = (4, (("a", (0,), (2,)), ("more", (2,), (2, 3)), ("stop", (2,), (1,)), ("use", (3,), (1,))))
-# "b" puts a token on the end while "c" is still to be done, which puts a second one there.
-TWICE = (4, (("a", (0,), (2,)), ("b", (2,), (1, 3)), ("c", (3,), (1,)), ("d", (2,), (1,))))
-# "again" takes both tokens and gives them back.
-TOGETHER = (4, (("a", (0,), (2, 3)), ("again", (2, 3), (2, 3)), ("both", (2, 3), (1,))))
-
-
-def ladder(many):
-    """Returns a workflow with so many choices of two steps, one after another."""
-    steps = []
-    for k in range(many):
-        begin, end = 0 if k == 0 else k + 1, 1 if k == many - 1 else k + 2
-        steps += [("l" + label(k), (begin,), (end,)), ("r" + label(k), (begin,), (end,))]
-    return (many + 1, tuple(sorted(steps)))
-
-
-def rhombs(many):
-    """Returns a workflow with so many choices of two ways, each of two steps, one after another."""
-    steps = []
-    for k in range(many):
-        begin, end = 0 if k == 0 else 3 * k + 1, 1 if k == many - 1 else 3 * k + 4
-        for name, middle in (("l", 3 * k + 2), ("r", 3 * k + 3)):
-            steps += [(name + label(k), (begin,), (middle,)), (name + "x" + label(k), (middle,), (end,))]
-    return (3 * many + 1, tuple(sorted(steps)))
-
-
-def branches(numbers, before):
-    """Returns a sound workflow: so many steps, then a fork into branches, each with so many ways of two steps.
-
-    The first order makes all choices before it goes on behind one of them.
-    """
-    many = len(numbers)
-    places = 2 + many
-    behind = []
-    steps = []
-    for k, number in enumerate(numbers):
-        end = places + number
-        for way in range(number):
-            steps += [("w" + label(k) + label(way), (2 + k,), (places + way,))]
-            steps += [("x" + label(k) + label(way), (places + way,), (end,))]
-        behind.append(end)
-        places = end + 1
-    line = [0] + list(range(places, places + before))
-    steps += [("b" + label(k), (line[k],), (line[k + 1],)) for k in range(before)]
-    steps += [("fork", (line[-1],), tuple(range(2, 2 + many))), ("join", tuple(behind), (1,))]
-    return (places + before, tuple(sorted(steps)))
-
-
-def led_to(net, name, outputs):
-    """Returns the net in which the step with this name has other outputs."""
-    return (net[0], tuple((n, ins, outputs if n == name else outs) for n, ins, outs in net[1]))
-
-
-EXACTLY_256 = branches((2, 2, 2, 2, 2, 3), 2)
-EXACTLY_257 = branches((2, 2, 2, 2, 2, 3), 3)
-# The first branch ends where the second one does, so join waits for ever.
-UNSOUND = led_to(EXACTLY_257, "xaaaa", (13,))
-
 SMALL = WORKFLOWS + (GROW, TWICE, ladder(4), rhombs(3), branches((2, 1), 1), branches((3, 2), 0)) + tuple(
     random_workflows(150, 4, 5) + random_workflows(80, 6, 7) + random_sound(40, 3) + nearly_sound(80, 3)
 )

@@ -18,6 +18,8 @@ from caseflow.nets.runs import (
     all_runs, enabled_clusters, enabled_steps, first_marking, is_complete, is_marking, is_run,
     last_marking, marking_after, markings_on, reachable_markings,
 )
+from caseflow.sound.faults import find_fault, is_fault
+from caseflow.sound.papers import is_sound, is_structure_paper, structure_paper
 from caseflow.sound.tables import finish_table, is_finish_table
 from tests import plain
 from tests.samples import APART, B, C, F, NETS, ODD, OVERLAP, PILE, STILL, outcome, same, variants
@@ -37,7 +39,8 @@ OF_A_NET = (
 )
 OF_A_WORKFLOW = (
     (clusters, ()), (cluster_of, ("name",)), (enabled_clusters, ("marking",)), (is_complete, ("value",)),
-    (finish_table, ()), (is_finish_table, ("value",)),
+    (finish_table, ()), (is_finish_table, ("value",)), (is_sound, ()), (structure_paper, ()),
+    (is_structure_paper, ("value",)), (find_fault, ()), (is_fault, ("value",)),
 )
 RIGHT = {
     "name": "begin", "place": 2, "value": (), "marking": (1, 0, 0), "run": ("begin",),
@@ -138,7 +141,7 @@ class Tests(unittest.TestCase):
                 self.assertIs(type(function(value)), bool)
             for function in (
                 is_marking, is_run, is_complete, is_weighting, are_counts, are_growing_counts, are_rising_weights,
-                is_siphon, is_trap, is_finish_table,
+                is_siphon, is_trap, is_finish_table, is_structure_paper, is_fault,
             ):
                 for net in (C, F):
                     self.assertIs(type(function(net, value)), bool, (function, value))
@@ -190,12 +193,13 @@ class Unchanged(unittest.TestCase):
             if function == finish_table:
                 self.assertIs(type(result), dict)
                 result = tuple(result.items())
-            if result is not None or function not in (growing_counts, rising_weights):
+            if result is not None or function not in (growing_counts, rising_weights, find_fault):
                 self.assertIn(type(result), (tuple, bool, int), function)
                 self.assertTrue(self.flat(result), function)
         self.assertTrue(self.flat(make_net(3, *C[1][::-1])))
         self.assertTrue(self.flat(growing_counts(B)))
         self.assertTrue(self.flat(rising_weights(B)))
+        self.assertTrue(self.flat((structure_paper(B), find_fault(B))))
 
     def flat(self, value):
         if isinstance(value, tuple):

@@ -49,13 +49,13 @@ def enabled_clusters(workflow, marking):
 def is_run(net, value):
     """Returns whether the value is a run from the first marking."""
     check_net(net)
-    return _end_of_run(net, value) is not None
+    return end_of_run(net, value) is not None
 
 
 def is_complete(workflow, value):
     """Returns whether the value is a run from the first marking to the last one."""
     check_workflow(workflow)
-    return _end_of_run(workflow, value) == one_token(workflow, 1)
+    return end_of_run(workflow, value) == one_token(workflow, 1)
 
 
 def marking_after(net, run, *, marking=None):
@@ -142,6 +142,20 @@ def follow_run(net, run, begin):
     return marking
 
 
+def check_complete(workflow, complete):
+    """Raises InvalidRun if the value is not a complete run."""
+    if follow_run(workflow, complete, one_token(workflow, 0)) != one_token(workflow, 1):
+        raise InvalidRun(len(complete))
+
+
+def end_of_run(net, value):
+    """Returns the marking behind a run from the first marking, or None."""
+    if not isinstance(value, tuple):
+        return None
+    many, marking = _follow_far(net, value, one_token(net, 0))
+    return marking if many == len(value) else None
+
+
 def pass_run(net, run, begin):
     """Returns all markings of a run from `begin` to its end, or raises InvalidRun."""
     follow_run(net, run, begin)
@@ -180,11 +194,3 @@ def _beginning(net, marking):
         return one_token(net, 0)
     check_marking(net, marking)
     return marking
-
-
-def _end_of_run(net, value):
-    """Returns the marking behind a run from the first marking, or None."""
-    if not isinstance(value, tuple):
-        return None
-    many, marking = _follow_far(net, value, one_token(net, 0))
-    return marking if many == len(value) else None

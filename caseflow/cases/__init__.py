@@ -1,0 +1,1 @@
+"""Runs that differ only in the order of independent steps, and their numbers."""

@@ -11,6 +11,10 @@ from caseflow.algebra.weightings import (
     are_counts, are_growing_counts, are_rising_weights, counts_basis, effect, effect_rank, growing_counts,
     is_weighting, positive_counts, positive_weighting, rising_weights, weighting_basis,
 )
+from caseflow.cases.cases import (
+    are_exchanges, count_orders, difference, exchanges, is_difference, normal_run, runs_of_case, same_case,
+)
+from caseflow.cases.numbers import Case, case_at, case_lengths, case_number, complete_cases, count_cases
 from caseflow.nets.clusters import cluster_of, clusters, steps_into, steps_out_of
 from caseflow.nets.nets import (
     inputs_of, is_net, is_workflow, make_net, net_defects, outputs_of, step_names,
@@ -20,8 +24,19 @@ from caseflow.nets.runs import (
     last_marking, marking_after, markings_on, reachable_markings,
 )
 from caseflow.nets.walks import Walk
+from caseflow.readings.chances import (
+    avoid_chance, chances_of, cost_variance, costs_of, expected_cost, expected_counts, is_value_table, pass_chance,
+    value_table,
+)
+from caseflow.readings.costs import chances_of_costs, count_of_cost, free_loop, is_free_loop
+from caseflow.readings.extremes import greatest_paper, is_greatest_paper, is_least_paper, least_paper
+from caseflow.readings.orders import (
+    is_closed_plan, is_order, is_weight_table, order_plan, ordered_run, planned_run, weight_sum,
+)
+from caseflow.sound.faults import find_fault, is_fault
+from caseflow.sound.papers import is_sound, is_structure_paper, structure_paper
 from caseflow.sound.tables import finish_table, is_finish_table
-from tests.samples import B, C, D, F, L, P, outcome, same
+from tests.samples import A, B, C, D, F, L, P, outcome, same
 
 
 class Examples(unittest.TestCase):
@@ -149,6 +164,161 @@ class Examples(unittest.TestCase):
         self.shows(
             [finish_table(C), finish_table(B), is_finish_table(C, {(1, 0, 0): (0, 9), (0, 0, 1): (1, 1)})],
             [{(0, 0, 1): (1, 1), (1, 0, 0): (0, 2)}, None, True],
+        )
+
+    def test_soundness(self):
+        self.shows([is_sound(F), is_sound(B), is_sound(L)], [True, False, False])
+
+    def test_structure_papers(self):
+        self.shows(
+            [structure_paper(P)[0], is_structure_paper(B, ("growth", (-1, -1, -1, -1))),
+             is_structure_paper(B, ("rank", 4, 2)), is_structure_paper(L, ("rank", 4, 3))],
+            ["sound", True, True, True],
+        )
+
+    def test_faults(self):
+        self.shows(
+            [find_fault(F), is_fault(B, ("empty", ("left",), (0, 1, 3))), is_fault(L, ("left", ("fork", "left")))],
+            [None, True, True],
+        )
+        self.shows([find_fault(B)[0], len(find_fault(B)[1]), len(find_fault(L)[1])], ["empty", 1, 2])
+
+
+class Cases(unittest.TestCase):
+
+    def shows(self, result, expected):
+        self.assertTrue(same(result, expected), (result, expected))
+
+    def test_normal_runs(self):
+        self.shows(
+            [normal_run(F, ("fork", "check", "pass", "pay")),
+             same_case(F, ("fork", "pay", "check"), ("fork", "check", "pay"))],
+            [("fork", "check", "pay", "pass"), True],
+        )
+
+    def test_exchanges(self):
+        self.shows(
+            [are_exchanges(F, ("fork", "pay", "check"), ("fork", "check", "pay"), (1,)),
+             exchanges(P, ("card",), ("cash",))],
+            [True, None],
+        )
+        self.shows(are_exchanges(F, ("fork", "pay", "check"), ("fork", "pay", "check"), (1, 1)), True)
+
+    def test_differences(self):
+        self.shows(
+            [is_difference(P, ("card",), ("cash",), ("card", "cash")),
+             is_difference(P, ("card",), ("cash",), ("card", "ship")), difference(P, (), ())],
+            [True, True, None],
+        )
+
+    def test_orders_of_a_case(self):
+        self.shows(count_orders(F, ("fork", "check", "pass", "pay")), 3)
+        self.shows(
+            list(runs_of_case(F, ("fork", "check", "pay"))), [("fork", "check", "pay"), ("fork", "pay", "check")]
+        )
+
+    def test_numbers(self):
+        self.shows([count_cases(F, 5), count_cases(F, 6), count_cases(F, 7), count_cases(P, 2)], [1, 0, 1, 2])
+        self.shows(
+            [case_at(P, 2, 1), case_number(F, ("fork", "check", "pass", "pay", "join"))], [("cash", "ship"), 0]
+        )
+
+    def test_complete_cases(self):
+        self.shows(
+            [list(complete_cases(P)), list(complete_cases(C, longest=3))],
+            [[("card", "ship"), ("cash", "ship")], [("begin", "stop"), ("begin", "again", "stop")]],
+        )
+
+    def test_case(self):
+        case = Case(F, ("fork",)).then("pay", "check")
+        self.shows(
+            [case == Case(F, ("fork", "check", "pay")), str(case), len(case), case.is_finished],
+            [True, "fork then check then pay", 3, False],
+        )
+        self.shows(str(Case.numbered(P, 2, 0)), "card then ship")
+
+    def test_lengths(self):
+        self.shows([case_lengths(P), case_lengths(F), case_lengths(C)], [(2, 2), (5, None), (2, None)])
+
+
+class Readings(unittest.TestCase):
+
+    def shows(self, result, expected):
+        self.assertTrue(same(result, expected), (result, expected))
+
+    def test_orders_and_plans(self):
+        self.shows(
+            [is_order(F, (4, 3, 2, 1, 0)), is_order(F, (0, 1)), is_closed_plan(C, {(1, 0, 0): 0, (0, 0, 1): 1}),
+             is_closed_plan(C, {(1, 0, 0): 0})],
+            [True, False, True, False],
+        )
+        self.shows(order_plan(C), {(0, 0, 1): 1, (1, 0, 0): 0})
+        self.shows([len(order_plan(F)), len(order_plan(F, order=(0, 1, 3, 2, 4)))], [6, 5])
+
+    def test_runs_by_orders_and_plans(self):
+        self.shows(
+            ordered_run(F, ("fork", "check", "pass", "pay", "join"), order=(0, 2, 1, 3, 4)),
+            ("fork", "pay", "check", "pass", "join"),
+        )
+        self.shows(planned_run(P, ("card", "ship"), {(1, 0, 0): 0, (0, 0, 1): 1}), ("card", "ship"))
+
+    def test_weights(self):
+        value = ({(1, 0, 0): 0, (0, 0, 1): 1}, {(1, 0, 0): 25, (0, 0, 1): 5, (0, 1, 0): 1})
+        self.shows([weight_sum(P, (2, 3, 5)), is_weight_table(P, (2, 3, 5), value)], [25, True])
+        self.shows(weight_sum(C, (1, 1, 1)), None)
+
+    def test_made_costs_and_chances(self):
+        self.shows(
+            [costs_of(P, ship=2, card=4, cash=7), costs_of(P), costs_of(P, default=0), chances_of(P, cash=2)],
+            [(4, 7, 2), (1, 1, 1), (0, 0, 0), ((1, 3), (2, 3), (1, 1))],
+        )
+        self.shows(outcome(costs_of, P, sell=2), ("raised", "UnknownStep", {"name": "sell"}))
+
+    def test_expected_costs(self):
+        self.shows([expected_cost(F), cost_variance(F)], [(7, 1), (8, 1)])
+        self.shows([expected_cost(P, costs=(4, 7, 2)), cost_variance(P, costs=(4, 7, 2))], [(15, 2), (9, 4)])
+        value = ({(1, 0, 0): 0, (0, 0, 1): 1}, {(1, 0, 0): (3, 1), (0, 0, 1): (2, 1), (0, 1, 0): (0, 1)})
+        self.shows([is_value_table(C, value), is_value_table(C, value_table(C))], [True, True])
+
+    def test_counts_and_chances(self):
+        self.shows(
+            [expected_counts(F)[:3], expected_counts(P, chances=((1, 3), (2, 3), (1, 1)))],
+            [((1, 1), (2, 1), (1, 1)), ((1, 3), (2, 3), (1, 1))],
+        )
+        self.shows(
+            [avoid_chance(F, ("back",)), avoid_chance(F, ("pay",)), avoid_chance(P, ())], [(1, 2), (0, 1), (1, 1)]
+        )
+        self.shows(
+            [pass_chance(A, (0, 0, 1, 0)), pass_chance(F, (0, 0, 1, 0, 0, 0, 1)), pass_chance(A, (0, 0, 1, 1))],
+            [(1, 2), (1, 1), (0, 1)],
+        )
+
+    def test_least_papers(self):
+        table = {(1, 0, 0): (0, 6), (0, 0, 1): (1, 2)}
+        self.shows(
+            [least_paper(P, costs=(4, 7, 2))[:2], is_least_paper(P, (6, ("card", "ship"), table), costs=(4, 7, 2))],
+            [(6, ("card", "ship")), True],
+        )
+
+    def test_greatest_papers(self):
+        self.shows(
+            [greatest_paper(P, costs=(4, 7, 2))[:2], greatest_paper(C)[0], greatest_paper(C, costs=(0, 1, 1))[:2]],
+            [("greatest", 9), "unbounded", ("greatest", 2)],
+        )
+        self.shows(is_greatest_paper(C, ("unbounded", ("begin",), ("again",), ("stop",))), True)
+
+    def test_costs_of_cases(self):
+        self.shows(
+            [count_of_cost(P, 2), count_of_cost(C, 4), count_of_cost(C, 2, costs=(0, 1, 1)),
+             count_of_cost(C, 1, costs=(0, 1, 1))],
+            [2, 1, None, 0],
+        )
+        self.shows(
+            [is_free_loop(C, 2, (("begin",), ("again",), ("stop",)), costs=(0, 1, 1)), free_loop(C, 2)], [True, None]
+        )
+        self.shows(
+            [chances_of_costs(C, 4), chances_of_costs(C, 2, costs=(0, 1, 1))],
+            [((0, 1), (0, 1), (1, 2), (1, 4), (1, 8)), ((0, 1), (0, 1), (1, 1))],
         )
 
 

@@ -36,21 +36,68 @@ FUNCTIONS = {
         "empty_siphon": "(net, marking, *, closed=False)", "empty_trap": "(net, marking, *, closed=False)",
     },
     "caseflow.sound.tables": {"finish_table": "(workflow)", "is_finish_table": "(workflow, value)"},
+    "caseflow.sound.papers": {
+        "is_sound": "(workflow)", "structure_paper": "(workflow)", "is_structure_paper": "(workflow, value)",
+    },
+    "caseflow.sound.faults": {"find_fault": "(workflow)", "is_fault": "(workflow, value)"},
+    "caseflow.cases.cases": {
+        "normal_run": "(sound, run)", "same_case": "(sound, one, other)", "exchanges": "(sound, one, other)",
+        "are_exchanges": "(sound, one, other, value)", "difference": "(sound, one, other)",
+        "is_difference": "(sound, one, other, value)", "count_orders": "(sound, run)", "runs_of_case": "(sound, run)",
+    },
+    "caseflow.cases.numbers": {
+        "count_cases": "(sound, length)", "case_at": "(sound, length, number)", "case_number": "(sound, complete)",
+        "complete_cases": "(sound, *, longest=20)", "case_lengths": "(sound)",
+    },
+    "caseflow.readings.orders": {
+        "is_order": "(sound, value)", "is_closed_plan": "(sound, value)", "order_plan": "(sound, *, order=None)",
+        "ordered_run": "(sound, complete, *, order=None)", "planned_run": "(sound, complete, plan)",
+        "weight_sum": "(sound, weights, *, order=None)", "is_weight_table": "(sound, weights, value)",
+    },
+    "caseflow.readings.chances": {
+        "costs_of": "(workflow, *, default=1, **costs)", "chances_of": "(workflow, **weights)",
+        "expected_cost": "(sound, *, chances=None, costs=None)",
+        "cost_variance": "(sound, *, chances=None, costs=None)",
+        "value_table": "(sound, *, chances=None, costs=None)",
+        "is_value_table": "(sound, value, *, chances=None, costs=None)",
+        "expected_counts": "(sound, *, chances=None)", "avoid_chance": "(sound, names, *, chances=None)",
+        "pass_chance": "(sound, marking, *, chances=None)",
+    },
+    "caseflow.readings.extremes": {
+        "least_paper": "(sound, *, costs=None)", "is_least_paper": "(sound, value, *, costs=None)",
+        "greatest_paper": "(sound, *, costs=None)", "is_greatest_paper": "(sound, value, *, costs=None)",
+    },
+    "caseflow.readings.costs": {
+        "count_of_cost": "(sound, cost, *, costs=None)", "free_loop": "(sound, cost, *, costs=None)",
+        "is_free_loop": "(sound, cost, value, *, costs=None)",
+        "chances_of_costs": "(sound, limit, *, chances=None, costs=None)",
+    },
 }
 CLASSES = {
     "caseflow.nets.walks": {"Walk": {
         "__init__": "(self, net)", "__len__": "(self)", "__str__": "(self)", "__eq__": "(self, other)",
         "put": "(self, run)", "do": "(self, *names)", "markings": "(self)", "back": "(self, many=1)",
     }},
+    "caseflow.cases.numbers": {"Case": {
+        "__init__": "(self, sound, run)", "__len__": "(self)", "__str__": "(self)", "__eq__": "(self, other)",
+        "runs": "(self)", "then": "(self, *names)",
+    }},
 }
-PROPERTIES = {"caseflow.nets.walks": {"Walk": {"marking": False, "next_steps": False, "names": True}}}
-CLASS_METHODS = {"caseflow.nets.walks": {"Walk": {"along": "(net, run)"}}}
+PROPERTIES = {
+    "caseflow.nets.walks": {"Walk": {"marking": False, "next_steps": False, "names": True}},
+    "caseflow.cases.numbers": {"Case": {"marking": False, "is_finished": False, "names": False}},
+}
+CLASS_METHODS = {
+    "caseflow.nets.walks": {"Walk": {"along": "(net, run)"}},
+    "caseflow.cases.numbers": {"Case": {"numbered": "(sound, length, number)"}},
+}
 STATIC_METHODS = {"caseflow.nets.walks": {"Walk": {"is_long_enough": "(many)"}}}
 CLASS_VALUES = {"caseflow.nets.walks": {"Walk": {"LONGEST": 400}}}
-GENERATORS = ("all_runs", "markings")
+GENERATORS = ("all_runs", "markings", "runs_of_case", "complete_cases", "runs")
 CONSTANTS = {
     "caseflow.nets.nets": {"MAX_PLACES": 30, "MAX_STEPS": 40},
     "caseflow.nets.runs": {"MAX_MARKINGS": 4096, "MAX_MET": 256, "MAX_TOKENS": 10 ** 9},
+    "caseflow.readings.costs": {"MAX_COST": 1000},
 }
 ERRORS = (
     "FlowError", "InvalidNet", "InvalidWorkflow", "InvalidMarking", "InvalidPlaces", "InvalidOrder", "InvalidPlan",

@@ -24,6 +24,8 @@ FORK = (5, (("fork", (0,), (2, 3)), ("join", (2, 3), (4,)), ("more", (4,), (2, 3
 # The two branches choose, but they must choose the same.
 MIXED = (8, (("a", (0,), (2, 3)), ("b", (2,), (4,)), ("c", (2,), (5,)), ("d", (3,), (6,)), ("e", (3,), (7,)),
              ("f", (4, 6), (1,)), ("g", (5, 7), (1,))))
+# Neither the rank nor a siphon speaks against this one, but tokens become more and more.
+MORE = (6, (("aa", (0,), (5,)), ("ab", (2,), (1, 5)), ("ac", (3,), (1, 4)), ("ad", (5,), (2, 4)), ("ae", (4,), (3, 4))))
 # No step puts the first token on place 3.
 AT_ONCE = (4, (("a", (0,), (2,)), ("b", (2, 3), (1, 3))))
 
@@ -87,15 +89,14 @@ class StructurePaper(unittest.TestCase):
 
     def test_small_workflows(self):
         kinds = set()
-        for workflow in some(SOUND, 80, 1) + some(NOT_SOUND, 150, 2) + [SIPHON, FORK, TOGETHER]:
+        for workflow in some(SOUND, 80, 1) + some(NOT_SOUND, 150, 2) + [SIPHON, FORK, TOGETHER, MORE]:
             paper = structure_paper(workflow)
             kinds.add(paper[0])
             self.assertIs(paper[0] == "sound", plain_algebra.is_sound(workflow), workflow)
             self.assertIs(plain_cases.is_paper(workflow, paper), True, (workflow, paper))
             self.assertIs(is_structure_paper(workflow, paper), True, (workflow, paper))
             self.assertTrue(same(paper, structure_paper(workflow)))
-        self.assertIn("sound", kinds)
-        self.assertIn("siphon", kinds)
+        self.assertEqual(sorted(kinds), ["growth", "rank", "siphon", "sound"])
 
     def test_large_workflows(self):
         for workflow in [EXACTLY_257, UNSOUND, FAULT_BEHIND_4096, wide(28), LOOP_OF_100] + nearly_sound(20, 5):

@@ -2,9 +2,11 @@
 
 import unittest
 from fractions import Fraction
+from itertools import product
 from random import Random
 
 from caseflow.algebra.occurring import can_occur
+from caseflow.algebra.weightings import weighting_basis
 from caseflow.cases.numbers import case_lengths, complete_cases
 from caseflow.readings.chances import chances_of, pass_chance
 from caseflow.readings.passing import graph_of_pairs
@@ -185,7 +187,19 @@ class Occurring(unittest.TestCase):
             (A, (0, 0, 1, 1)), (D, (0, 0, 1, 0, 0, 0, 0, 1)), (C, (0, 0, 0)), (C, (10 ** 9,) * 3), (C, (1, 1, 0)),
             (C, (0, 0, 2)), (F, (0, 0, 1, 0, 0, 0, 0)), (F, (0, 1, 0, 0, 0, 0, 1)),
         ):
+            self.assertIs(can_occur(workflow, marking), False, marking)
             self.assertTrue(same(pass_chance(workflow, marking), (0, 1)), marking)
+
+    def test_a_trap_without_a_token(self):
+        # Every weighting agrees with these markings of D, but a trap does not.
+        found = [marking for marking in product((0, 1), repeat=8)
+                 if all(sum(w * t for w, t in zip(weighting, marking)) == weighting[0] for weighting in weighting_basis(D))]
+        reachable = plain.reachable(D, 99)
+        self.assertEqual([marking for marking in found if can_occur(D, marking)], sorted(reachable))
+        wrong = [marking for marking in found if marking not in reachable]
+        self.assertIn((0, 0, 1, 0, 0, 0, 0, 1), wrong)
+        for marking in wrong:
+            self.assertTrue(same(pass_chance(D, marking), (0, 1)), marking)
 
     def test_only_the_limits_of_all_functions(self):
         # These markings do not occur, so the search for pairs is left out.

@@ -103,9 +103,8 @@ def runs_of_case(sound, run):
 
 def depend(step, other):
     """Returns whether the two steps depend on one another."""
-    if step[0] == other[0] or have_common(step[1], other[1]):
-        return True
-    return have_common(step[1], other[2]) or have_common(other[1], step[2])
+    # A step has its inputs in common with itself, too.
+    return have_common(step[1], other[1] + other[2]) or have_common(other[1], step[2])
 
 
 def _check_run(sound, run):

@@ -4,7 +4,7 @@ from caseflow.errors import TooMany
 from caseflow.nets.moves import has_tokens, marking_behind
 from caseflow.nets.runs import MAX_MARKINGS
 from caseflow.readings.ends import parts_at_ends
-from caseflow.readings.ratios import ONE, ZERO, ratio, sum_of
+from caseflow.readings.ratios import ONE, ratio, sum_of
 from caseflow.sound.handling import Graph, first_enabled, groups_of_steps
 
 
@@ -34,22 +34,19 @@ def graph_of_pairs(sound, begin, end):
 
 
 def mean_number_of_ways(graph, chances, end):
-    """Returns the sum, over all cases of runs from the first state to the marking `end`, of their chances."""
+    """Returns the sum, over all cases of runs from the first state to the marking `end`, of their chances.
+
+    There is such a run.
+    """
     rows = {}
     for number, moves in enumerate(graph.moves):
         if moves != []:
             rows[number] = _row_of_moves(moves, chances)
+    if 0 not in rows:
+        return ONE
     # Where nothing is handled any more the run has come to its end: to this marking or to another one.
     ends = [number for number, state in enumerate(graph.states) if state[0] == end and number not in rows]
-    if ends == []:
-        return ZERO
-    if 0 not in rows:
-        return ONE if ends == [0] else ZERO
-    wanted = {number: _only_states(rows[number], rows, ends) for number in rows}
-    solved = parts_at_ends(wanted)
-    if 0 not in solved:
-        return ZERO
-    below, parts = solved[0]
+    below, parts = parts_at_ends({number: _only_states(rows[number], rows, ends) for number in rows})[0]
     return ratio(sum(parts.values()), below)
 
 

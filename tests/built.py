@@ -165,6 +165,42 @@ def regions(before, branches, left):
 MANY_REGIONS = ((3,), (5,), (2, ((2,), (3,), (3,), (3,), (5,)), 1))
 FAULT_BEHIND_4096 = regions(1, MANY_REGIONS, True)
 FAULT_BEHIND_4097 = regions(2, MANY_REGIONS, True)
+# The last marking is reached by longer runs than so many others.
+END_BEHIND_4096 = regions(1, MANY_REGIONS, False)
+END_BEHIND_4097 = regions(2, MANY_REGIONS, False)
+
+
+def boxes(sizes, starts, before):
+    """Returns a sound workflow: a chain of so many places, then a choice of forks into branches of these sizes.
+
+    Each fork has in `starts` the positions at which the branches begin behind it.
+    """
+    line = [0] + list(range(2, before + 1))
+    sides = [((one,), (other,)) for one, other in zip(line, line[1:])]
+    places = before + 1
+    branches = []
+    for size in sizes:
+        branches.append(list(range(places, places + size)))
+        places += size
+    for start in starts:
+        sides.append(((line[-1],), tuple(branch[at] for branch, at in zip(branches, start))))
+    for branch in branches:
+        sides += [((one,), (other,)) for one, other in zip(branch, branch[1:])]
+    sides.append((tuple(branch[-1] for branch in branches), (1,)))
+    return (places, tuple((label(k), ins, outs) for k, (ins, outs) in enumerate(sides)))
+
+
+def ones(many):
+    """Returns the tuples of so many numbers, one of which is 1 while the others are 0."""
+    return [tuple(int(at == k) for at in range(many)) for k in range(many)]
+
+
+# 3 + (2 ** 5 - 1) * (2 * 2 * 3 - 1) * 3 * 4 + 1 markings: neither five nor three branches begin all at their first place.
+MARKINGS_4096 = boxes(
+    (2, 2, 2, 2, 2, 2, 2, 3, 3, 4), [one + other + (0, 0) for one in ones(5) for other in ones(3)], 3
+)
+# One more.
+MARKINGS_4097 = END_BEHIND_4096
 # 100 and 101 markings met by the first order lie on the loop.
 LOOP_OF_100 = around(branches((2,) * 5, 4))
 LOOP_OF_101 = around(branches((2,) * 5, 5))
@@ -173,3 +209,37 @@ RINGS_OF_100 = rings((4, 2, 3, 4, 3))
 RINGS_OF_101 = rings((5, 2, 3, 4, 3))
 PAIRS_4096 = shortcuts(10, ((), (9,), (8,)), 1, (6, 9))
 PAIRS_4097 = shortcuts(10, ((), (9,), (8,)), 2, (6, 9))
+
+
+def late(numbers, back):
+    """Returns a sound workflow with branches, in which the first order makes one choice after the other one is finished.
+
+    In each branch a step comes before a choice between so many ways. If `back` is
+    true, these lead back to the choice, where another step leads on. From the
+    marking at which all choices can be made, the first order makes them together.
+    """
+    many = len(numbers)
+    places = 2 + many
+    ways = []
+    for number in numbers:
+        ways.append(list(range(places, places + number)))
+        places += number
+    begins, ends = list(range(places, places + many)), list(range(places + many, places + 2 * many))
+    steps = [("fork", (0,), tuple(begins)), ("join", tuple(ends), (1,))]
+    for k in range(many):
+        steps.append(("enter" + label(k), (begins[k],), (2 + k,)))
+        if back:
+            steps.append(("leave" + label(k), (2 + k,), (ends[k],)))
+        for at, place in enumerate(ways[k]):
+            steps.append(("go" + label(k) + label(at), (2 + k,), (place,)))
+            steps.append(("on" + label(k) + label(at), (place,), (2 + k if back else ends[k],)))
+    return (places + 2 * many, tuple(sorted(steps)))
+
+
+LATE_RUN = ("fork", "enteraa", "enterab", "enterac")
+# From that marking on there are 1 + 5 + 5 * 6 + 5 * 6 * 6 + 6 * 6 + 6 + 1 = 259 markings, and with 5 and 5 of them 218.
+LATE_259 = late((5, 6, 6), False)
+LATE_218 = late((5, 5, 6), False)
+# From there on 155 and 80 markings lie on loops, from the first marking on 15 and 12.
+LATE_LOOPS_155 = late((4, 4, 4), True)
+LATE_LOOPS_80 = late((1, 4, 4), True)

@@ -15,6 +15,11 @@ from caseflow.cases.cases import (
     are_exchanges, count_orders, difference, exchanges, is_difference, normal_run, runs_of_case, same_case,
 )
 from caseflow.cases.numbers import Case, case_at, case_lengths, case_number, complete_cases, count_cases
+from caseflow.editions.editions import cover, edition_gap, first_unmovable, is_cover, moved_marking
+from caseflow.editions.markings import is_occurrence_paper, occurrence_paper, occurs
+from caseflow.library.library import (
+    expand, full_cost, full_counts, full_greatest, full_least, full_variance, is_library, used_names,
+)
 from caseflow.nets.clusters import cluster_of, clusters, steps_into, steps_out_of
 from caseflow.nets.nets import (
     inputs_of, is_net, is_workflow, make_net, net_defects, outputs_of, step_names,
@@ -24,6 +29,10 @@ from caseflow.nets.runs import (
     last_marking, marking_after, markings_on, reachable_markings,
 )
 from caseflow.nets.walks import Walk
+from caseflow.office.logs import (
+    completion, correction_bound, is_alignment, is_correction_bound, least_alignment, log_beginning,
+)
+from caseflow.office.office import Office
 from caseflow.readings.chances import (
     avoid_chance, chances_of, cost_variance, costs_of, expected_cost, expected_counts, is_value_table, pass_chance,
     value_table,
@@ -36,6 +45,13 @@ from caseflow.readings.orders import (
 from caseflow.sound.faults import find_fault, is_fault
 from caseflow.sound.papers import is_sound, is_structure_paper, structure_paper
 from caseflow.sound.tables import finish_table, is_finish_table
+from caseflow.terms.shapes import collapse, is_part, largest_part, part_workflow
+from caseflow.terms.terms import Do, Loop, Parallel, Sequence, Term, workflow_term
+from caseflow.text.formats import (
+    format_fraction, format_library, format_marking, format_names, format_net, parse_fraction, parse_library,
+    parse_marking, parse_names, parse_net,
+)
+from caseflow.text.shell import Shell
 from tests.samples import A, B, C, D, F, L, P, outcome, same
 
 
@@ -320,6 +336,184 @@ class Readings(unittest.TestCase):
             [chances_of_costs(C, 4), chances_of_costs(C, 2, costs=(0, 1, 1))],
             [((0, 1), (0, 1), (1, 2), (1, 4), (1, 8)), ((0, 1), (0, 1), (1, 1))],
         )
+
+
+class Libraries(unittest.TestCase):
+
+    K = (("buy", P, None, (4, 7, 2), ()), ("shop", C, None, None, (("begin", "buy", 10 ** 20),)))
+    E = (("buy", P, None, None, ()), ("one", (2, (("go", (0,), (1,)),)), None, (5,), (("go", "buy", 1),)))
+
+    def shows(self, result, expected):
+        self.assertTrue(same(result, expected), (result, expected))
+
+    def test_kinds(self):
+        self.shows(
+            [is_library(self.K), is_library(self.K[1:]), used_names(self.K, "shop"), used_names(self.K, "buy")],
+            [True, False, ("buy",), ()],
+        )
+
+    def test_values(self):
+        self.shows(
+            [full_cost(self.K, "shop"), full_variance(self.K, "shop")],
+            [(750000000000000000003, 1), (225000000000000000002, 1)],
+        )
+        self.shows(
+            [full_counts(self.K, "shop")[("buy", "card")], full_counts(self.K, "shop")[("shop", "again")]],
+            [(50000000000000000000, 1), (1, 1)],
+        )
+        self.shows(
+            [full_least(self.K, "shop"), full_greatest(self.K, "shop"), full_greatest(self.K, "buy")],
+            [600000000000000000002, None, 9],
+        )
+
+    def test_expansion(self):
+        self.shows(expand(self.E, "one")[0], (5, (
+            ("aa", (0,), (2,)), ("ab", (2,), (4,)), ("ac", (2,), (4,)), ("ad", (4,), (3,)), ("ae", (3,), (1,)))))
+        self.shows(expand(self.E, "one")[1:], (
+            ((1, 1), (1, 2), (1, 2), (1, 1), (1, 1)), (5, 1, 1, 1, 0),
+            (("go", 0), ("go", 1, "card"), ("go", 1, "cash"), ("go", 1, "ship"), ("go", 2)),
+        ))
+
+
+class Terms(unittest.TestCase):
+
+    T = Parallel(Do("pay"), Loop(Do("check"), enter="open", again="back", leave="pass"), fork="fork", join="join")
+
+    def shows(self, result, expected):
+        self.assertTrue(same(result, expected), (result, expected))
+
+    def test_terms(self):
+        self.shows(
+            [str(self.T), len(self.T), self.T.depth, self.T.places, self.T.names[:2], list(self.T.walk())[:4]],
+            ["par fork ( pay ; loop open ( check ) back pass ) join", 7, 3, 8, ("back", "check"),
+             ["fork", "pay", "open", "check"]],
+        )
+        self.shows(self.T.workflow(), (8, (
+            ("back", (7,), (6,)), ("check", (6,), (7,)), ("fork", (0,), (2, 4)), ("join", (3, 5), (1,)),
+            ("open", (2,), (6,)), ("pass", (7,), (3,)), ("pay", (4,), (5,)))))
+        self.shows(
+            [Term.read(str(self.T)) == self.T, self.T.normalized() == self.T, str(self.T.normalized()),
+             Term.read("seq ( seq ; alt )").names],
+            [True, False, "par fork ( loop open ( check ) back pass ; pay ) join", ("alt", "seq")],
+        )
+        self.shows(outcome(Sequence, Do("a"), Do("a")), ("raised", "InvalidTerm", {}))
+
+    def test_terms_of_workflows(self):
+        self.shows([str(workflow_term(P)), workflow_term(F)], ["seq ( alt ( card ; cash ) ; ship )", None])
+
+    def test_parts(self):
+        self.shows(
+            [largest_part(P, 0, 2), is_part(P, 0, 2, ("card",)), largest_part(F, 3, 6), largest_part(F, 2, 5)],
+            [("card", "cash"), True, ("pay",), None],
+        )
+        self.shows(
+            [part_workflow(P, 0, 2, ("card", "cash")), collapse(P, 0, 2, ("card", "cash"), "money")],
+            [(2, (("card", (0,), (1,)), ("cash", (0,), (1,)))), (3, (("money", (0,), (2,)), ("ship", (2,), (1,))))],
+        )
+
+
+class Editions(unittest.TestCase):
+
+    O = (3, (("begin", (0,), (2,)), ("stop", (2,), (1,))))
+
+    def shows(self, result, expected):
+        self.assertTrue(same(result, expected), (result, expected))
+
+    def test_occurring_markings(self):
+        self.shows([occurs(F, (0, 0, 1, 0, 0, 0, 1)), occurs(F, (0, 0, 1, 0, 0, 0, 0))], [True, False])
+        self.shows(occurrence_paper(F, (0, 0, 1, 1, 0, 0, 0)), ("run", ("fork",)))
+        self.shows(
+            is_occurrence_paper(F, (0, 0, 1, 0, 0, 0, 0), ("weighting", (1, 1, 0, 1, 0, 0, 1))), True
+        )
+        marking = (0, 0, 1, 0, 0, 0, 0, 1)
+        self.shows([occurs(D, marking), is_occurrence_paper(D, marking, ("trap", (0, 1, 3, 4, 5, 6)))], [False, True])
+
+    def test_gaps_and_covers(self):
+        self.shows([edition_gap(C, self.O), edition_gap(self.O, C), cover(C, self.O)], [("begin", "again"), None, None])
+        found = (((0, 0, 1), (0, 0, 1)), ((0, 1, 0), (0, 1, 0)), ((1, 0, 0), (1, 0, 0)))
+        self.shows(cover(self.O, C), found)
+        self.shows([is_cover(self.O, C, found), is_cover(C, self.O, found)], [True, False])
+
+    def test_moving(self):
+        self.shows(
+            [moved_marking(C, self.O, (0, 0, 1)), moved_marking(F, C, (0, 0, 1, 1, 0, 0, 0)),
+             moved_marking(F, C, (0, 0, 1, 0, 0, 0, 1), places=(0, 1, 2, None, 2, 2, 2))],
+            [(0, 0, 1), None, (0, 0, 2)],
+        )
+        self.shows(
+            [first_unmovable(C, self.O), first_unmovable(F, C, places=(0, 1, 2, None, 2, 2, None))],
+            [None, (0, 0, 0, 0, 0, 1, 1)],
+        )
+
+
+class Offices(unittest.TestCase):
+
+    def shows(self, result, expected):
+        self.assertTrue(same(result, expected), (result, expected))
+
+    def test_office(self):
+        office = Office()
+        self.shows([office.publish(C), office.publish(F, costs=(0, 2, 1, 1, 1, 5)), office.edition], [0, 1, 0])
+        office.edition = 1
+        office.start("one")
+        self.shows(
+            [office.do("one", "fork", "pay"), office.spent, office.remaining("one"), office.cheapest("one")],
+            [(0, 0, 1, 0, 0, 0, 1), 6, (6, 1), (4, ("check", "pass", "join"))],
+        )
+        self.shows(
+            [list(office.worklist()), office.wanted(most=5), office.wanted(enabled="check", edition=1)],
+            [[("one", 1, ("check",))], (), ("one",)],
+        )
+        self.shows(outcome(office.do, "one", "check", "pay"), ("raised", "InvalidRun", {"at": 1}))
+        self.shows(office.state("one")[1], (0, 0, 1, 0, 0, 0, 1))
+        self.shows(
+            outcome(office.move, "one", 0, places=(0, 1, 2, None, 2, 2, None)), ("raised", "InvalidOperation", {})
+        )
+
+    def test_logs(self):
+        self.shows(
+            [log_beginning(F, ("fork", "check", "check")), completion(C, ("begin", "again")), completion(P, ("ship",))],
+            [2, ("begin", "again", "stop"), None],
+        )
+        self.shows(
+            least_alignment(C, ("begin", "again", "again")),
+            (("both", "begin"), ("both", "again"), ("both", "again"), ("run", "stop")),
+        )
+        self.shows(is_alignment(P, ("ship", "card"), (("run", "cash"), ("both", "ship"), ("log", "card"))), True)
+        self.shows(
+            [is_correction_bound(P, ("ship",), {((1, 0, 0), 0): 1}),
+             is_correction_bound(P, ("ship",), {((1, 0, 0), 0): 2})],
+            [True, False],
+        )
+        self.shows(correction_bound(P, ("card", "ship")), {})
+
+
+class Texts(unittest.TestCase):
+
+    def shows(self, result, expected):
+        self.assertTrue(same(result, expected), (result, expected))
+
+    def test_formats(self):
+        self.shows(format_net(C), "places 3\nagain 2 > 2\nbegin 0 > 2\nstop 2 > 1")
+        self.shows(
+            [parse_net(format_net(F)) == F, parse_library(format_library(Libraries.K)) == Libraries.K], [True, True]
+        )
+        self.shows(
+            [format_marking(C, (0, 1, 0)), parse_marking(C, "0,0,1"), format_names(()), parse_names("fork pay")],
+            ["0,1,0", (0, 0, 1), "-", ("fork", "pay")],
+        )
+        self.shows([format_fraction((15, 2)), parse_fraction("0/1")], ["15/2", (0, 1)])
+        self.shows(outcome(parse_fraction, "2/4"), ("raised", "ParseError", {}))
+
+    def test_shell(self):
+        shell = Shell()
+        self.shows(
+            shell.run_all("publish\nplaces 3\ncard 0 > 2\ncash 0 > 2\nship 2 > 1", "start one", "do one card",
+                          "expected one", "cheapest one"),
+            ("0", "ok", "0,0,1", "1/1", "1 ship"),
+        )
+        self.shows([shell.run("occurs 0 1,1,0"), shell.run("state one"), len(shell)], ["no", "0 0,0,1 1", 7])
+        self.shows(outcome(shell.run, "do one card"), ("raised", "InvalidRun", {"at": 0}))
 
 
 class Readme(unittest.TestCase):

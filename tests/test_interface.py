@@ -72,6 +72,34 @@ FUNCTIONS = {
         "is_free_loop": "(sound, cost, value, *, costs=None)",
         "chances_of_costs": "(sound, limit, *, chances=None, costs=None)",
     },
+    "caseflow.library.library": {
+        "is_library": "(value)", "used_names": "(library, name)", "full_cost": "(library, name)",
+        "full_variance": "(library, name)", "full_counts": "(library, name)", "full_least": "(library, name)",
+        "full_greatest": "(library, name)", "expand": "(library, name)",
+    },
+    "caseflow.terms.terms": {"workflow_term": "(workflow)"},
+    "caseflow.terms.shapes": {
+        "is_part": "(workflow, first, last, value)", "largest_part": "(workflow, first, last)",
+        "part_workflow": "(workflow, first, last, names)", "collapse": "(workflow, first, last, names, name)",
+    },
+    "caseflow.editions.markings": {
+        "occurs": "(sound, marking)", "occurrence_paper": "(sound, marking)",
+        "is_occurrence_paper": "(sound, marking, value)",
+    },
+    "caseflow.editions.editions": {
+        "edition_gap": "(old, new)", "cover": "(old, new)", "is_cover": "(old, new, value)",
+        "moved_marking": "(old, new, marking, *, places=None)", "first_unmovable": "(old, new, *, places=None)",
+    },
+    "caseflow.office.logs": {
+        "log_beginning": "(sound, log)", "completion": "(sound, log)", "least_alignment": "(sound, log)",
+        "is_alignment": "(sound, log, value)", "correction_bound": "(sound, log)",
+        "is_correction_bound": "(sound, log, value)",
+    },
+    "caseflow.text.formats": {
+        "format_net": "(net)", "parse_net": "(text)", "format_library": "(library)", "parse_library": "(text)",
+        "format_marking": "(net, marking)", "parse_marking": "(net, text)", "format_names": "(names)",
+        "parse_names": "(text)", "format_fraction": "(fraction)", "parse_fraction": "(text)",
+    },
 }
 CLASSES = {
     "caseflow.nets.walks": {"Walk": {
@@ -82,22 +110,54 @@ CLASSES = {
         "__init__": "(self, sound, run)", "__len__": "(self)", "__str__": "(self)", "__eq__": "(self, other)",
         "runs": "(self)", "then": "(self, *names)",
     }},
+    "caseflow.terms.terms": {
+        "Term": {
+            "__len__": "(self)", "__str__": "(self)", "__eq__": "(self, other)", "walk": "(self)", "normalized": "(self)",
+            "workflow": "(self)",
+        },
+        "Do": {"__init__": "(self, name)"}, "Sequence": {"__init__": "(self, *parts)"},
+        "Choice": {"__init__": "(self, *parts)"}, "Parallel": {"__init__": "(self, *parts, fork, join)"},
+        "Loop": {"__init__": "(self, body, *, enter, again, leave)"},
+    },
+    "caseflow.office.office": {"Office": {
+        "__init__": "(self)", "__len__": "(self)", "__str__": "(self)", "__eq__": "(self, other)", "editions": "(self)",
+        "cases": "(self)", "log": "(self)", "publish": "(self, workflow, *, chances=None, costs=None)",
+        "start": "(self, case)", "close": "(self, case)", "do": "(self, case, *steps)",
+        "move": "(self, case, edition, *, places=None)", "undo": "(self)", "redo": "(self)", "apply": "(self, operation)",
+        "apply_all": "(self, operations)", "state": "(self, case)", "history": "(self, case)", "enabled": "(self, case)",
+        "remaining": "(self, case)", "cheapest": "(self, case)", "worklist": "(self)", "wanted": "(self, **limits)",
+        "movable": "(self, edition, *, places=None)",
+    }},
+    "caseflow.text.shell": {"Shell": {
+        "__init__": "(self)", "__len__": "(self)", "__str__": "(self)", "__eq__": "(self, other)",
+        "run": "(self, command)", "run_all": "(self, *commands)", "office": "(self)",
+    }},
 }
 PROPERTIES = {
     "caseflow.nets.walks": {"Walk": {"marking": False, "next_steps": False, "names": True}},
     "caseflow.cases.numbers": {"Case": {"marking": False, "is_finished": False, "names": False}},
+    "caseflow.terms.terms": {"Term": {"names": False, "depth": False, "places": False}},
+    "caseflow.office.office": {"Office": {"edition": True, "running": False, "spent": False}},
 }
 CLASS_METHODS = {
     "caseflow.nets.walks": {"Walk": {"along": "(net, run)"}},
     "caseflow.cases.numbers": {"Case": {"numbered": "(sound, length, number)"}},
+    "caseflow.terms.terms": {"Term": {"read": "(text)"}},
+    "caseflow.office.office": {"Office": {"replayed": "(log)"}},
 }
 STATIC_METHODS = {"caseflow.nets.walks": {"Walk": {"is_long_enough": "(many)"}}}
-CLASS_VALUES = {"caseflow.nets.walks": {"Walk": {"LONGEST": 400}}}
-GENERATORS = ("all_runs", "markings", "runs_of_case", "complete_cases", "runs")
+CLASS_VALUES = {
+    "caseflow.nets.walks": {"Walk": {"LONGEST": 400}},
+    "caseflow.terms.terms": {"Term": {"MAX_STEPS": 40, "MAX_DEPTH": 8}},
+    "caseflow.office.office": {"Office": {"MAX_EDITIONS": 8, "MAX_CASES": 20}},
+}
+GENERATORS = ("all_runs", "markings", "runs_of_case", "complete_cases", "runs", "walk", "worklist")
 CONSTANTS = {
     "caseflow.nets.nets": {"MAX_PLACES": 30, "MAX_STEPS": 40},
     "caseflow.nets.runs": {"MAX_MARKINGS": 4096, "MAX_MET": 256, "MAX_TOKENS": 10 ** 9},
     "caseflow.readings.costs": {"MAX_COST": 1000},
+    "caseflow.library.library": {"MAX_ENTRIES": 12, "MAX_TIMES": 10 ** 30},
+    "caseflow.text.formats": {"MAX_DIGITS": 400},
 }
 ERRORS = (
     "FlowError", "InvalidNet", "InvalidWorkflow", "InvalidMarking", "InvalidPlaces", "InvalidOrder", "InvalidPlan",

@@ -15,21 +15,23 @@ from caseflow.sound.handling import groups_of_steps
 def place_values(sound, chances, costs):
     """Returns a fraction for each place; the costs of the steps are fractions, too."""
     places = sound[0]
+    # Only the last column has the costs in it, so that long ones do not make all entries long.
+    below = common_denominator(list(costs))
     rows = []
     for _, inputs, steps in groups_of_steps(sound):
         shared = common_denominator([chances[at] for at, _ in steps])
-        price = sum_of([product_of(chances[at], costs[at]) for at, _ in steps])
-        row = [0] * places + [price[0] * shared]
+        row = [0] * (places + 1)
         for place in inputs:
-            row[place] += shared * price[1]
+            row[place] += shared
         for at, step in steps:
-            part = shared // chances[at][1] * chances[at][0] * price[1]
+            part = shared // chances[at][1] * chances[at][0]
+            row[places] += part * costs[at][0] * (below // costs[at][1])
             for place in step[2]:
                 row[place] -= part
         rows.append(row)
     # There can be several such values of places; those of the free ones are taken as 0.
     found = pivot_rows(rows, [place for place in range(places) if place != 1])
-    return tuple([_solution_at(found, place) for place in range(places)])
+    return tuple([product_of(_solution_at(found, place), (1, below)) for place in range(places)])
 
 
 def mean_counts(sound, chances):
@@ -54,6 +56,11 @@ def mean_counts(sound, chances):
 def value_of(values, places):
     """Returns the sum of the values of these places."""
     return sum_of([values[place] for place in places])
+
+
+def value_at(values, marking):
+    """Returns the mean cost from a marking that occurs to the end."""
+    return value_of(values, [place for place, tokens in enumerate(marking) if tokens > 0])
 
 
 def squared_surprises(sound, chances, costs):

@@ -5,7 +5,7 @@ from caseflow.basics import is_fraction, is_integer_within
 from caseflow.errors import InvalidChances, InvalidCosts, InvalidNumber, UnknownStep
 from caseflow.nets.nets import check_workflow
 from caseflow.nets.runs import check_marking, one_token
-from caseflow.readings.averages import as_fractions, mean_counts, place_values, squared_surprises, value_of
+from caseflow.readings.averages import as_fractions, mean_counts, place_values, squared_surprises, value_at
 from caseflow.readings.ends import parts_at_ends
 from caseflow.readings.given import MAX_PART, are_chances, chances_given, costs_given, is_cost
 from caseflow.readings.limits import check_loops, graph_for_chances
@@ -66,7 +66,7 @@ def value_table(sound, *, chances=None, costs=None):
     values = place_values(sound, fractions, prices)
     table = {}
     for marking in sorted(graph.states):
-        table[marking] = value_of(values, [place for place, tokens in enumerate(marking) if tokens > 0])
+        table[marking] = value_at(values, marking)
     return (plan_of_graph(sound, graph), table)
 
 

@@ -3,9 +3,10 @@
 from caseflow.basics import is_integer
 from caseflow.nets.runs import end_of_run, one_token
 from caseflow.readings.given import costs_given
+from caseflow.readings.routes import costly_loop, greatest_route, least_route
 from caseflow.readings.ways import cost_of_run, is_loop_of_run, names_at, way_between
 from caseflow.sound.handling import graph_by_order
-from caseflow.sound.loops import components, states_in_postorder
+from caseflow.sound.loops import components
 from caseflow.sound.plans import moves_of_table
 from caseflow.sound.structure import check_sound
 
@@ -16,15 +17,7 @@ def least_paper(sound, *, costs=None):
     prices = costs_given(sound, costs)
     graph = graph_by_order(sound, None)
     end = graph.number_of(one_token(sound, 1))
-    least = _least_costs(graph, prices, end)
-    state = 0
-    positions = []
-    while state != end:
-        # A pair is the least one of its state by exactly such moves, and one step less is left behind them.
-        ways = [move for move in graph.moves[state] if _with_step(least[move[1]], prices[move[0]]) == least[state]]
-        at, state = ways[0]
-        positions.append(at)
-    numbers = [pair[0] for pair in least]
+    numbers, positions = least_route(graph, prices, end)
     return (numbers[0], names_at(sound, positions), _bound_table(graph, numbers, end))
 
 
@@ -45,12 +38,11 @@ def greatest_paper(sound, *, costs=None):
     graph = graph_by_order(sound, None)
     end = graph.number_of(one_token(sound, 1))
     groups = components(graph.states_behind())
-    for group in groups:
-        for state in group:
-            for at, after in graph.moves[state]:
-                if after in group and prices[at] > 0:
-                    return _unbounded_paper(sound, graph, end, state, (at, after))
-    return _bounded_paper(sound, graph, end, prices, groups)
+    loop = costly_loop(graph, prices, groups)
+    if loop is not None:
+        return _unbounded_paper(sound, graph, end, loop[0], loop[1])
+    numbers, positions = greatest_route(graph, prices, groups, end)
+    return ("greatest", numbers[0], names_at(sound, positions), _bound_table(graph, numbers, end))
 
 
 def is_greatest_paper(sound, value, *, costs=None):
@@ -67,61 +59,11 @@ def is_greatest_paper(sound, value, *, costs=None):
     return _is_bound(sound, prices, first, third, -1)
 
 
-def _with_step(pair, price):
-    cost, many = pair
-    return (cost + price, many + 1)
-
-
-def _least_costs(graph, prices, end):
-    """Returns for each state the least pair of the cost and the number of steps from it to the end."""
-    # The steps are counted so that a run does not go round a loop without costs.
-    order = states_in_postorder(graph.states_behind())
-    least = [None for _ in order]
-    least[end] = (0, 0)
-    is_changed = True
-    while is_changed:
-        is_changed = False
-        for state in order:
-            moves = [move for move in graph.moves[state] if least[move[1]] is not None]
-            ways = [_with_step(least[after], prices[at]) for at, after in moves]
-            if ways != [] and min(ways) != least[state]:
-                least[state] = min(ways)
-                is_changed = True
-    return least
-
-
 def _unbounded_paper(sound, graph, end, state, move):
     before = way_between(graph.moves, 0, state)
     loop = (move[0],) + way_between(graph.moves, move[1], state)
     after = way_between(graph.moves, state, end)
     return ("unbounded", names_at(sound, before), names_at(sound, loop), names_at(sound, after))
-
-
-def _bounded_paper(sound, graph, end, prices, groups):
-    """Returns the paper for a graph in which no loop costs anything."""
-    numbers = [0 for _ in graph.states]
-    # For each state: a state that can be reached from it without costs, and the move to be done there.
-    best = [None for _ in graph.states]
-    for group in groups:
-        ways = []
-        for state in group:
-            outside = [move for move in graph.moves[state] if move[1] not in group]
-            ways.extend([(prices[at] + numbers[after], state, (at, after)) for at, after in outside])
-        if ways != []:
-            for state in group:
-                numbers[state] = max(ways)[0]
-                best[state] = max(ways)[1:]
-    positions = ()
-    state = 0
-    while state != end:
-        inside, move = best[state]
-        positions = positions + way_between(_free_moves(graph, prices), state, inside) + (move[0],)
-        state = move[1]
-    return ("greatest", numbers[0], names_at(sound, positions), _bound_table(graph, numbers, end))
-
-
-def _free_moves(graph, prices):
-    return [[(at, after) for at, after in moves if prices[at] == 0] for moves in graph.moves]
 
 
 def _bound_table(graph, numbers, end):

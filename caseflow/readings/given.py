@@ -50,9 +50,16 @@ def costs_given(workflow, costs):
     """Returns the costs, those for None too, or raises InvalidCosts."""
     if costs is None:
         return tuple([1 for _ in workflow[1]])
-    if not isinstance(costs, tuple) or len(costs) != len(workflow[1]) or not all([is_cost(part) for part in costs]):
+    if not are_costs(workflow, costs):
         raise InvalidCosts("not costs of the workflow")
     return costs
+
+
+def are_costs(workflow, value):
+    """Returns whether the value has an integer that can be a cost for each step."""
+    if not isinstance(value, tuple) or len(value) != len(workflow[1]):
+        return False
+    return all([is_cost(part) for part in value])
 
 
 def is_cost(value):

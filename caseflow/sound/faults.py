@@ -1,10 +1,9 @@
 """Faults: runs behind which a case can never be finished."""
 
 from caseflow.algebra.siphons import siphon_within
-from caseflow.errors import TooMany
-from caseflow.nets.moves import marking_behind
 from caseflow.nets.nets import are_places, check_workflow
-from caseflow.nets.runs import MAX_MARKINGS, end_of_run, list_enabled, one_token
+from caseflow.nets.runs import end_of_run, one_token
+from caseflow.nets.searches import shortest_run
 from caseflow.sound.structure import has_sound_structure
 
 
@@ -14,24 +13,12 @@ def find_fault(workflow):
     if has_sound_structure(workflow):
         return None
     sides = [(mask_of(inputs), mask_of(outputs)) for _, inputs, outputs in workflow[1]]
-    first = one_token(workflow, 0)
-    if _is_at_fault(sides, first):
-        return _fault_at(workflow, (), first)
-    # The name that leads to a marking and the marking before it; each level has runs of one length.
-    origins = {first: None}
-    level = [first]
-    while len(origins) <= MAX_MARKINGS:
-        following = []
-        for marking in level:
-            for step in list_enabled(workflow, marking):
-                after = marking_behind(marking, step)
-                if after not in origins:
-                    origins[after] = (step[0], marking)
-                    following.append(after)
-                    if _is_at_fault(sides, after):
-                        return _fault_at(workflow, _run_to(origins, after), after)
-        level = following
-    raise TooMany(MAX_MARKINGS)
+
+    def is_end(marking):
+        return _is_at_fault(sides, marking)
+
+    run = shortest_run(workflow, one_token(workflow, 0), is_end)
+    return _fault_at(workflow, run, end_of_run(workflow, run))
 
 
 def is_fault(workflow, value):
@@ -83,15 +70,6 @@ def _comes_to_end(sides, marked):
             if reached & inputs == inputs:
                 reached = reached | outputs
     return reached & mask_of((1,)) != 0
-
-
-def _run_to(origins, marking):
-    names = []
-    origin = origins[marking]
-    while origin is not None:
-        names.append(origin[0])
-        origin = origins[origin[1]]
-    return tuple(reversed(names))
 
 
 def _fault_at(workflow, run, marking):

@@ -69,10 +69,15 @@ def graph_by_order(sound, order):
     What is done in a move is the position of a step. The workflow is known to be
     sound; `order` is an order, or None for the first one.
     """
+    return graph_from(sound, one_token(sound, 0), order)
+
+
+def graph_from(sound, begin, order):
+    """Returns the same graph for what begins at a marking that occurs."""
     groups = groups_of_steps(sound)
     ranked = groups if order is None else [groups[number] for number in order]
     last = one_token(sound, 1)
-    graph = Graph(one_token(sound, 0))
+    graph = Graph(begin)
     marking = graph.next_open()
     while marking is not None:
         cluster, _, steps = first_enabled(ranked, marking)

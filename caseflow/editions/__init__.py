@@ -1,0 +1,1 @@
+"""Occurring markings, and how cases come to new editions of a workflow."""

@@ -1,0 +1,1 @@
+"""Workflows whose steps stand for cases of other workflows."""

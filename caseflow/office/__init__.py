@@ -1,0 +1,1 @@
+"""Running cases, and what is written down about them."""

@@ -1,0 +1,1 @@
+"""Terms that describe workflows, and parts of workflows."""

@@ -1,0 +1,1 @@
+"""Values written as texts, and a shell for an office."""

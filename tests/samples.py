@@ -3,8 +3,13 @@
 import signal
 from string import ascii_lowercase
 
+from caseflow.cases.numbers import Case
+from caseflow.errors import TooMany
 from caseflow.nets.runs import all_runs
 from caseflow.nets.walks import Walk
+from caseflow.office.office import Office
+from caseflow.terms.terms import Do
+from caseflow.text.shell import Shell
 
 F = (7, (("back", (4,), (2,)), ("check", (2,), (4,)), ("fork", (0,), (2, 3)),
          ("join", (5, 6), (1,)), ("pass", (4,), (5,)), ("pay", (3,), (6,))))
@@ -75,7 +80,7 @@ ODD = (
     {}, {0: 1}, {"fork": (0,)}, {(1, 0, 0): (0, 2)}, {(1, 0, 0): 0, (0, 0, 1): 1},
     ((0,), (0,)), (("a", (0,), (1,)),), (2, ("a", (0,), (1,))), (2, ()), (((0,), ("fork",)),),
     nested(tuple, 10), nested(list, 10), nested(dict, 10),
-    all_runs(C, length=1), Walk.along(C, ("begin",)),
+    all_runs(C, length=1), Walk.along(C, ("begin",)), Case(C, ("begin",)), Do("fork"), Office(), Shell(), TooMany(3),
 ) + NETS
 
 

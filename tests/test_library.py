@@ -368,6 +368,10 @@ class Errors(unittest.TestCase):
             self.assertEqual(outcome(function, library(B, EXACTLY_257), "b")[:2], ("raised", "NotSound"))
         self.assertEqual(outcome(full_greatest, library(C, EXACTLY_257), "b"), ("raised", "TooMany", {"limit": 256}))
         self.assertEqual(outcome(full_greatest, library(C, LOOP_OF_101), "b"), ("returned", None))
+        user = ("user", EXACTLY_257, None, None, ((EXACTLY_257[1][0][0], "loop", 1),))
+        self.assertEqual(
+            outcome(full_greatest, (("loop", C, None, None, ()), user), "user"), ("raised", "TooMany", {"limit": 256})
+        )
 
     def test_the_first_wrong_argument_decides(self):
         for function in FUNCTIONS:

@@ -70,7 +70,8 @@ class Making(unittest.TestCase):
                     self.assertEqual(len(result[1].names), many + 2 * (type(result[1]) is Parallel))
 
     def test_parts_that_are_no_terms(self):
-        for value in ODD + ("a", "seq ( a ; b )", Do, Term, (Do("a"),), [Do("a"), Do("b")], {"a": Do("a")}):
+        values = [value for value in ODD if not isinstance(value, Term)]
+        for value in values + ["a", "seq ( a ; b )", Do, Term, (Do("a"),), [Do("a"), Do("b")], {"a": Do("a")}]:
             for call in (
                 lambda: Sequence(value, Do("b")), lambda: Sequence(Do("b"), value), lambda: Choice(Do("b"), value),
                 lambda: Choice(value, value), lambda: Parallel(Do("b"), value, fork="x", join="y"),
@@ -304,6 +305,11 @@ class Workflows(unittest.TestCase):
             result = workflow_term(workflow)
             if result is not None:
                 self.assertEqual(plain_terms.form(result.workflow()), plain_terms.form(workflow))
+        # The first join is a fork at the same time.
+        twice = (10, (("a", (2,), (4,)), ("b", (3,), (5,)), ("c", (6,), (8,)), ("d", (7,), (9,)), ("fork", (0,), (2, 3)),
+                      ("join", (8, 9), (1,)), ("middle", (4, 5), (6, 7))))
+        self.assertIs(is_sound(twice), True)
+        self.assertIsNone(workflow_term(twice))
         # A Parallel has at most eight branches.
         for many in (2, 8, 9, 12):
             steps = [("fork", (0,), tuple(range(2, 2 + many)))]

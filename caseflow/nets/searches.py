@@ -27,7 +27,7 @@ def search_levels(begin, moves_at, is_end):
                     origins[after] = (done, state)
                     following.append(after)
                     if is_end(after):
-                        return _way_to(origins, after), list(origins)
+                        return way_to(origins, after), list(origins)
         level = following
     return None, list(origins)
 
@@ -48,7 +48,8 @@ def run_between(net, begin, end):
     return shortest_run(net, begin, is_end)
 
 
-def _way_to(origins, state):
+def way_to(origins, state):
+    """Returns what is done on the way to the state; `origins` tells of each state what is done last and from where."""
     way = []
     origin = origins[state]
     while origin is not None:

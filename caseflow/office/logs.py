@@ -71,7 +71,7 @@ def _check(sound, log):
 def _is_kind_and_name(value):
     if not isinstance(value, tuple) or len(value) != 2:
         return False
-    return isinstance(value[0], str) and value[0] in KINDS and is_name(value[1])
+    return value[0] in KINDS and is_name(value[1])
 
 
 def _is_pair(sound, log, value):

@@ -1,6 +1,7 @@
 """Shortest ways in a graph of numbered states, and runs with loops."""
 
 from caseflow.nets.runs import end_of_run, one_token
+from caseflow.nets.searches import way_to
 
 
 def way_between(moves, begin, end):
@@ -15,12 +16,7 @@ def way_between(moves, begin, end):
                     origins[after] = (done, state)
                     following.append(after)
         level = following
-    way = []
-    origin = origins[end]
-    while origin is not None:
-        way.append(origin[0])
-        origin = origins[origin[1]]
-    return tuple(reversed(way))
+    return way_to(origins, end)
 
 
 def names_at(workflow, positions):

@@ -1,6 +1,5 @@
 """Texts of terms are read into trees."""
 
-from caseflow.basics import is_name
 from caseflow.errors import ParseError
 from caseflow.terms.trees import DO, LEAST_PARTS, LOOP, MOST_PARTS
 
@@ -9,7 +8,7 @@ NAMES_AROUND = {"seq": (0, 0), "alt": (0, 0), "par": (1, 1), "loop": (1, 2)}
 
 
 def tree_of_text(text, most_depth):
-    """Returns the tree with this text, or raises ParseError; its names can still be equal or too many."""
+    """Returns the tree with this text, or raises ParseError; its names can still be none, or equal, or too many."""
     if not isinstance(text, str):
         raise ParseError("not a text")
     words = text.split(" ")
@@ -24,16 +23,16 @@ def _read_tree(words, at, most_depth):
     if most_depth == 0:
         raise ParseError("too many terms are nested")
     if not _has_parts(words, at):
-        return (DO, (_name_at(words, at),), ()), at + 1
+        return (DO, (_word_at(words, at),), ()), at + 1
     kind = words[at]
     many_before, many_behind = NAMES_AROUND[kind]
-    before = [_name_at(words, at + 1 + number) for number in range(many_before)]
+    before = [_word_at(words, at + 1 + number) for number in range(many_before)]
     parts, position = _read_parts(words, at + 1 + many_before, most_depth)
     if kind == LOOP and len(parts) != 1:
         raise ParseError("a loop has one body")
     if kind != LOOP and not LEAST_PARTS <= len(parts) <= MOST_PARTS:
         raise ParseError("too few or too many parts")
-    behind = [_name_at(words, position + number) for number in range(many_behind)]
+    behind = [_word_at(words, position + number) for number in range(many_behind)]
     return (kind, tuple(before + behind), tuple(parts)), position + many_behind
 
 
@@ -59,10 +58,3 @@ def _read_parts(words, at, most_depth):
 
 def _word_at(words, at):
     return words[at] if at < len(words) else ""
-
-
-def _name_at(words, at):
-    word = _word_at(words, at)
-    if not is_name(word):
-        raise ParseError("not the name of a step")
-    return word

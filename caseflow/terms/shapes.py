@@ -85,8 +85,7 @@ def _places_of(steps, ends):
 
 def _forms_workflow(first, last, steps):
     """Returns whether these steps are a workflow from `first` to `last`."""
-    if any([first in step[2] or last in step[1] for step in steps]):
-        return False
+    # It has a defect if the first place is an output or the last one an input.
     return is_workflow(_workflow_between(first, last, sorted(steps)))
 
 

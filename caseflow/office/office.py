@@ -240,7 +240,7 @@ def _check_form(operation):
     if not isinstance(operation, tuple) or operation == () or not isinstance(operation[0], str):
         raise InvalidOperation("not an operation")
     if len(operation) != _LENGTHS.get(operation[0], 0):
-        raise InvalidOperation("no operation has this word and so many elements")
+        raise InvalidOperation("no operation has this word and so many parts")
     if operation[0] == "do" and not isinstance(operation[2], tuple):
         raise InvalidOperation("the steps are not a tuple")
 
